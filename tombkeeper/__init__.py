@@ -1,0 +1,1 @@
+"""Tombkeeper: deleted for good, and no mark kept too long."""
