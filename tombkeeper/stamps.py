@@ -76,11 +76,11 @@ def _likely_entry(text):
         return None
     key, stamp, told = parts
     number, _, home = stamp.partition(".")
-    value = None if told == "-" else _likely_value(told)
-    return key, (_likely_number(number), home), value
+    value = None if told == "-" else likely_value(told)
+    return key, (likely_number(number), home), value
 
 
-def _likely_number(text):
+def likely_number(text):
     """Return the number that is written as the text, or None."""
     # Python refuses to convert very long texts, so the length is looked at first.
     if len(text) > MOST_DIGITS or not (text.isascii() and text.isdigit()):
@@ -88,7 +88,7 @@ def _likely_number(text):
     return int(text)
 
 
-def _likely_value(text):
+def likely_value(text):
     """Return the value that may be written as the text."""
     # The steps of format_value in reverse: the last one is undone first.
     return text[1:-1].replace('\\"', '"').replace("\\\\", "\\")

@@ -1,0 +1,28 @@
+"""Checks of the arguments that many functions take."""
+
+from tombkeeper.errors import BadKey, BadStamp, NoHome
+from tombkeeper.stamps import is_stamp, is_word
+
+
+def check_home(world, home):
+    """Raise NoHome if a thing is no home of a world."""
+    if not isinstance(home, str) or home not in world.homes:
+        raise NoHome(home)
+
+
+def check_place(world, place):
+    """Raise NoHome if a thing is no place of a world."""
+    if place not in world:
+        raise NoHome(place)
+
+
+def check_key(key):
+    """Raise BadKey if a thing is no word."""
+    if not is_word(key):
+        raise BadKey(key)
+
+
+def check_stamp(stamp):
+    """Raise BadStamp if a thing is no stamp."""
+    if not is_stamp(stamp):
+        raise BadStamp(stamp)
