@@ -146,6 +146,18 @@ class Barriers(unittest.TestCase):
         self.trails(["dan"], [["ann", "bob", "east", "dan"]], False)
         self.trails(["dan"], [["dan", "bob", "ann"]], False)
         self.trails(["dan"], [["ann", "east"]], False)
+        self.trails(["dan"], [["ann", "eve", "dan"]], False)
+        self.trails(["dan"], [["ann", "k", "east", "dan"]], False)
+
+    def test_a_trail_goes_through_each_cache_once(self):
+        links = [("ann", "east"), ("east", "bob"), ("bob", "east"), ("east", "cid"), ("east", "west"), ("west", "east")]
+        world = passed(behind(World(["ann", "bob", "cid"], links, ["east", "west"]), ("write", "ann", "k", "x")), ["bob", "cid"])
+        for row, expected in [
+            (["ann", "east", "cid"], True), (["ann", "east", "bob", "east", "cid"], False),
+            (["ann", "east", "west", "east", "cid"], False),
+        ]:
+            self.assertIs(are_trails(world, "k", (2, "bob"), ["cid"], [row]), expected)
+        self.assertEqual(len(least_barrier(world, "k", (2, "bob"), ["bob", "cid"])[0]), 1)
 
     def test_what_are_no_trails(self):
         right = ["ann", "bob", "dan"]
@@ -275,6 +287,25 @@ class Drawn(unittest.TestCase):
             self.assertIs(are_trails(world, "k", stamp, wanted, trails), True)
             sizes[len(barrier)] = sizes.get(len(barrier), 0) + 1
         self.assertGreaterEqual(sorted(sizes), [0, 1, 2, 3])
+
+    def test_many_homes_and_few_links(self):
+        sizes = {}
+        for seed in range(400):
+            rng = dice("many", seed)
+            homes, caches = list("abcdef"), ["east", "west"][:rng.randint(0, 2)]
+            pairs = [pair for pair in itertools.permutations(homes + caches, 2) if rng.random() < 0.3]
+            world = World(homes, pairs, caches)
+            # Half of the homes may begin, the others are wanted, or some are both.
+            rng.shuffle(homes)
+            world = passed(world, homes[:3])
+            wanted = rng.sample(homes, 3) if seed % 3 == 0 else homes[:3]
+            barrier, trails = least_barrier(world, "k", (9, "z"), wanted)
+            self.assertEqual(len(barrier), plain_ways.fewest(world, "k", (9, "z"), wanted))
+            self.assertEqual(len(trails), len(barrier))
+            self.assertIs(is_barrier(world, "k", (9, "z"), wanted, barrier), True)
+            self.assertIs(are_trails(world, "k", (9, "z"), wanted, trails), True)
+            sizes[len(barrier)] = sizes.get(len(barrier), 0) + 1
+        self.assertEqual(sorted(sizes), [0, 1, 2, 3])
 
     def test_all_sets_of_homes(self):
         for rng, world, stamp, wanted in self.worlds("sets", 80):

@@ -196,6 +196,19 @@ class Refusals(unittest.TestCase):
         self.assertIs(is_way(keeper.world >> ("open", "bob", "ann"), "ann", "k", events), True)
         self.assertEqual(Keeper(world).do(("open", "bob", "ann")), ("done",))
 
+    def test_in_a_world_with_ways_free_events_are_done_and_no_guarded_ones(self):
+        # The mark of ann went too early: bob's floor is above his clock.
+        row = [("write", "bob", "l", "y"), ("delete", "bob", "l"), ("save", "bob"), ("pass", "ann", 5)]
+        row += [("write", "ann", "k", "x"), ("delete", "ann", "k"), ("save", "ann"), ("drop", "ann", "k")]
+        world = behind(World(["ann", "bob"], [("ann", "bob")]), *row)
+        self.assertEqual((ways(world), world.saved_clock("bob")), ([("bob", "k")], 2))
+        keeper = Keeper(world)
+        for event in [("save", "ann"), ("crash", "bob"), ("leave", "ann")]:
+            self.assertEqual(keeper.do(event), ("done",))
+        # No floor is raised by this drop, so it is not untold.
+        word, reason, (home, key, events) = keeper.do(("drop", "bob", "l"))
+        self.assertEqual((word, reason, home, key), ("refused", "way", "bob", "k"))
+
     def test_two_reasons(self):
         # The world ahead of the keeper, no event ahead of all.
         self.assertEqual(keeper_behind(ROW[:4]).do(DROP), ("refused", "unsaved", "k"))

@@ -153,6 +153,13 @@ class Stories(unittest.TestCase):
         story.tell(("send", "ann", "bob", None))
         twin.tell(("send", "bob", "ann", None))
         self.assertEqual((story.world.sent("ann", "bob"), twin.world.sent("ann", "bob")), (2, 1))
+        # Each knows its own sendings.
+        twin.tell(("save", "ann"))
+        twin.tell(("send", "ann", "bob", None))
+        for one in [story, twin]:
+            one.tell(("take", "bob", "ann", 1))
+        self.assertEqual(story.past("bob"), [0, 1, 2, 3, 4, 5, 6])
+        self.assertEqual(twin.past("bob"), list(range(13)))
 
 
 class Pasts(unittest.TestCase):
@@ -590,6 +597,19 @@ class Hearing(unittest.TestCase):
             ):
                 story.tell(event)
             self.assertIs(hears(story, "ann", "k"), True)
+
+    def test_what_a_cache_says_is_not_enough(self):
+        links = [("ann", "bob"), ("bob", "ann"), ("bob", "east"), ("east", "ann")]
+        row = [
+            ("send", "ann", "bob", None), ("take", "bob", "ann", 0), ("send", "bob", "ann", None), ("take", "ann", "bob", 0),
+            ("send", "bob", "east", None), ("take", "east", "bob", 0), ("send", "east", "ann", None),
+            ("take", "ann", "east", 0),
+        ]
+        story = Story(self.marked(World(["ann", "bob"], links, ["east"])), row)
+        self.assertEqual(story.heard("east", "ann", "k"), (2, "ann"))
+        self.assertIs(hears(story, "ann", "k"), False)
+        story.tell(("shut", "ann", "east"))
+        self.assertIs(hears(story, "ann", "k"), True)
 
     def test_as_many_rounds_as_homes_free_all_marks(self):
         tried = 0

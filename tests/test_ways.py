@@ -225,6 +225,20 @@ class Ways(unittest.TestCase):
         )
         self.assertIn(("forget", "east", "k"), self.check_way(world))
 
+    def test_a_home_that_has_something_older_but_has_saved_a_mark(self):
+        # ann took bob's value behind her drop; a crash would bring her mark back.
+        world = World(["ann", "bob", "cid", "dan"], [("bob", "ann"), ("cid", "ann"), ("ann", "dan")])
+        world = behind(
+            world, ("write", "bob", "k", "b"), ("send", "bob", "ann", None), ("pass", "bob", 9), ("save", "bob"),
+            ("pass", "cid", 2), ("write", "cid", "k", "c"), ("send", "cid", "ann", None), ("pass", "cid", 9), ("save", "cid"),
+            ("write", "dan", "k", "d"), ("delete", "dan", "k"), ("pass", "dan", 9), ("save", "dan"), ("pass", "ann", 3),
+            ("write", "ann", "k", "a"), ("delete", "ann", "k"), ("save", "ann"), ("drop", "ann", "k"), ("take", "ann", "bob", 0),
+        )
+        self.assertEqual(world.floor("dan", "k"), (5, "ann"))
+        self.assertEqual(places_of(world, "k", (1, "bob")), ["ann", "bob"])
+        self.assertEqual(places_of(world, "k", (3, "cid")), ["ann", "cid", "dan"])
+        self.check_way(world, "dan")
+
     def test_no_way_without_a_floor(self):
         world = World(["ann", "bob"], [("bob", "ann")]) >> ("write", "bob", "k", "x")
         self.assertIsNone(way(world, "ann", "k"))

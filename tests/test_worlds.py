@@ -91,6 +91,7 @@ class Making(unittest.TestCase):
         for thing in [
             [["ann", "bob"]], [pair, pair], [("ann", "ann")], [("ann", "cid")], [("cid", "ann")], [("ann",)], [()],
             [("ann", "bob", "ann")], ["ab"], [pair, ("bob", None)], [(None, None)], [(1, 2)], [pair, "x"], pair,
+            [("ann", Agreeable())], [(Agreeable(), "ann")], [(Hostile(), "ann")], [("ann", Hostile())],
             {pair}, {pair: 1}, "ann bob", [(["ann"], "bob")], [("ann", ("bob",))], [("Ann", "bob")], ("ann", "bob"),
         ]:
             self.refuses(thing, ["ann", "bob"], thing, ["east"])

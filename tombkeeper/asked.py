@@ -22,6 +22,12 @@ def check_key(key):
         raise BadKey(key)
 
 
+def floor_of_home(world, home, key):
+    """Return the floor of a home and a key, or None; both may be any values."""
+    check_home(world, home)
+    return world.floor(home, key)
+
+
 def check_stamp(stamp):
     """Raise BadStamp if a thing is no stamp."""
     if not is_stamp(stamp):

@@ -1,15 +1,13 @@
 """Covers: why there is no way."""
 
-from tombkeeper.asked import check_home, check_key
+from tombkeeper.asked import floor_of_home
 from tombkeeper.fields import Field
 from tombkeeper.stamps import is_stamp
 
 
 def cover(world, home, key):
     """Return the least cover of a home and a key, or None if there is a way."""
-    check_home(world, home)
-    check_key(key)
-    floor = world.floor(home, key)
+    floor = floor_of_home(world, home, key)
     if floor is None:
         return {}
     field = Field(world, key)
@@ -19,11 +17,9 @@ def cover(world, home, key):
 
 def is_cover(world, home, key, thing):
     """Tell whether a thing, which may be any value, is a cover of a home and a key."""
-    check_home(world, home)
-    check_key(key)
+    floor = floor_of_home(world, home, key)
     if not isinstance(thing, dict) or not all([is_stamp(stamp) for stamp in thing]):
         return False
-    floor = world.floor(home, key)
     field = Field(world, key)
     wanted = [] if floor is None else field.candidates(floor)
     if sorted(thing) != wanted:

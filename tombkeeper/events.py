@@ -123,8 +123,6 @@ def _likely_event(text):
     form = FORMS[word]
     # The last part may have spaces of its own.
     parts = rest.split(" ", len(form) - 1)
-    if len(parts) != len(form):
-        return None
     return (word,) + tuple([_likely_part(kind, part) for kind, part in zip(form, parts)])
 
 

@@ -26,9 +26,7 @@ class Field:
         ]
 
     def can_be_written(self, stamp):
-        """Tell whether a home can still write a value with a stamp, which may be None."""
-        if stamp is None:
-            return False
+        """Tell whether a value with a stamp can still be written by its home."""
         number, home = stamp
         return home in self._world.homes and number > self._world.saved_clock(home)
 
@@ -81,17 +79,16 @@ class Field:
         path = [place]
         while before[path[0]] is not None:
             path = [before[path[0]]] + path
-        row = self.starts(stamp)[path[0]]
-        row = self._awake(path[0], row, len(path) > 1)
+        row = ()
+        acts = self.starts(stamp)[path[0]]
         for p, q in zip(path, path[1:]):
-            take = ("take", q, p, self._world.sent(p, q))
-            row = row + (("send", p, q, (self._key,)),)
-            row = row + self._awake(q, self._cleared(q, stamp) + (take,), True)
-        return row
+            row = row + self._awake(p, acts + (("send", p, q, (self._key,)),))
+            acts = self._cleared(q, stamp) + (("take", q, p, self._world.sent(p, q)),)
+        return row + self._awake(place, acts)
 
-    def _awake(self, place, acts, goes_on):
-        """Return what a place does, which comes first if it is away and must act."""
-        if self._world.is_away(place) and (goes_on or len(acts) > 0):
+    def _awake(self, place, acts):
+        """Return what a place does, which comes first if it is away and does anything."""
+        if self._world.is_away(place) and len(acts) > 0:
             return (("come", place),) + acts
         return acts
 
@@ -155,11 +152,12 @@ def sources(world, key):
 
 
 def greatest_below(home, stamp):
-    """Return the greatest stamp of a home that is less than a stamp, or None."""
+    """Return the greatest stamp of a home that is less than a stamp.
+
+    Its number may be 0, which is no stamp, and which no home can write.
+    """
     number, rival = stamp
-    if home < rival:
-        return number, home
-    return (number - 1, home) if number > 1 else None
+    return (number if home < rival else number - 1), home
 
 
 def stamp_in(content, key):

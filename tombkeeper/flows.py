@@ -74,14 +74,17 @@ def _trails(used, many):
             other = [arc[1] for arc in left if arc[0] == gate and left[arc] > 0][0]
             left[(gate, other)] = left[(gate, other)] - 1
             gate = other
-            if gate[0] == "in" and gate != SINK:
+            if gate != SINK:
                 trail = _gone_on(trail, gate[1])
         trails.append(trail)
     return trails
 
 
 def _gone_on(trail, place):
-    """Return a trail that goes on to a place, without the round if it was there before."""
-    # Only a cache may be met again: a flow goes through each home once.
+    """Return a trail that goes on to a place, without the round if it was there before.
+
+    A place is met at each of its gates. Behind the last one only a cache may be
+    met again, as a flow goes through each home once.
+    """
     at = trail.index(place) if place in trail else len(trail)
     return trail[:at] + [place]

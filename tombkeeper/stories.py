@@ -173,7 +173,8 @@ class Knower:
         """Return homes and keys of all marks that may be dropped now."""
         marks = self.world.marks()
         seen = {home: self._told.past_world(home) for home in sorted({home for home, _, _ in marks})}
-        return [(home, key) for home, key, _ in marks if self._may_drop(home, key, seen[home])]
+        # The world refuses just what it refuses there: a home knows its own content.
+        return [(home, key) for home, key, _ in marks if judged(seen[home], ("drop", home, key)) == DONE]
 
     def _answer(self, event):
         """Return what do would answer."""
@@ -182,11 +183,6 @@ class Knower:
         if is_event(event) and event[0] == "drop" and self.world.refusal_of(event) is None:
             return judged(self._told.past_world(event[1]), event)
         return judged(self.world, event)
-
-    def _may_drop(self, home, key, seen):
-        """Tell whether a home may drop its mark of a key, with the world that it has seen."""
-        drop = ("drop", home, key)
-        return self.world.refusal_of(drop) is None and judged(seen, drop) == DONE
 
 
 def hears(story, home, key):

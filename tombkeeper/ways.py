@@ -1,15 +1,13 @@
 """Ways: rows of free events behind which a home shows a value older than its floor."""
 
-from tombkeeper.asked import check_home, check_key, check_stamp
+from tombkeeper.asked import check_key, check_stamp, floor_of_home
 from tombkeeper.events import is_event, is_free
 from tombkeeper.fields import Field
 
 
 def candidates(world, home, key):
     """Return the stamps, ascending, of the values that may begin a way to a home."""
-    check_home(world, home)
-    check_key(key)
-    floor = world.floor(home, key)
+    floor = floor_of_home(world, home, key)
     return [] if floor is None else Field(world, key).candidates(floor)
 
 
@@ -22,9 +20,7 @@ def places_of(world, key, stamp):
 
 def way(world, home, key):
     """Return a way to a home and a key, or None."""
-    check_home(world, home)
-    check_key(key)
-    floor = world.floor(home, key)
+    floor = floor_of_home(world, home, key)
     if floor is None:
         return None
     field = Field(world, key)
@@ -36,9 +32,7 @@ def way(world, home, key):
 
 def is_way(world, home, key, thing):
     """Tell whether a thing, which may be any value, is a way to a home and a key."""
-    check_home(world, home)
-    check_key(key)
-    floor = world.floor(home, key)
+    floor = floor_of_home(world, home, key)
     if floor is None or not isinstance(thing, tuple):
         return False
     for event in thing:
