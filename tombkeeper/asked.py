@@ -1,6 +1,6 @@
 """Checks of the arguments that many functions take."""
 
-from tombkeeper.errors import BadKey, BadStamp, NoHome
+from tombkeeper.errors import BadKey, BadRow, BadStamp, NoHome
 from tombkeeper.stamps import is_stamp, is_word
 
 
@@ -32,3 +32,9 @@ def check_stamp(stamp):
     """Raise BadStamp if a thing is no stamp."""
     if not is_stamp(stamp):
         raise BadStamp(stamp)
+
+
+def check_row(row):
+    """Raise BadRow if a thing is no list or tuple."""
+    if not isinstance(row, (list, tuple)):
+        raise BadRow(row)

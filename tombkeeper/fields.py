@@ -2,14 +2,19 @@
 
 
 class Field:
-    """All of a world that concerns one key; it never changes."""
+    """All of a world that concerns one key; it never changes.
 
-    def __init__(self, world, key):
+    skips tells what is not looked at, if it has any of the words backups,
+    crashes, messages and writes.
+    """
+
+    def __init__(self, world, key, skips=()):
         self._world = world
         self._key = key
-        self._bars = {place: _bar(world, place, key) for place in world.places}
+        self._skips = skips
+        self._bars = {place: _bar(world, place, key, skips) for place in world.places}
         self._roads = roads(world)
-        self._sources = sources(world, key)
+        self._sources = sources(world, key, skips)
 
     def candidates(self, stamp):
         """Return the stamps less than a stamp of values that may begin a way, ascending."""
@@ -28,6 +33,8 @@ class Field:
     def can_be_written(self, stamp):
         """Tell whether a value with a stamp can still be written by its home."""
         number, home = stamp
+        if "writes" in self._skips:
+            return False
         return home in self._world.homes and number > self._world.saved_clock(home)
 
     def accepts(self, place, stamp):
@@ -36,19 +43,18 @@ class Field:
         return bar is None or bar < stamp
 
     def starts(self, stamp):
-        """Return a dict from the places where a value begins to the events behind which they show it."""
+        """Return a dict from the places where a value begins to the fewest events behind which they show it."""
+        rows = [
+            (place, self._brought(place, event, stamp))
+            for place, event in self._sources.get(stamp, [])
+            if event is None or event[0] == "crash" or self.accepts(place, stamp)
+        ]
+        if self.can_be_written(stamp):
+            rows = rows + [(stamp[1], self._written(stamp))]
         found = {}
-        for place, event in self._sources.get(stamp, []):
-            if place in found:
-                continue
-            if event is None:
-                found[place] = ()
-            elif event[0] == "crash":
-                found[place] = (event,)
-            elif self.accepts(place, stamp):
-                found[place] = self._cleared(place, stamp) + (event,)
-        if stamp[1] not in found and self.can_be_written(stamp):
-            found[stamp[1]] = self._written(stamp)
+        for place, row in rows:
+            if place not in found or len(row) < len(found[place]):
+                found[place] = row
         return found
 
     def came_from(self, stamp):
@@ -73,24 +79,51 @@ class Field:
         ends = [other for place in places for other in self._roads[place]]
         return [place for place in self._world.places if place in ends and place not in places]
 
-    def row_to(self, place, stamp):
-        """Return a row of events behind which a place shows a value with a stamp that can come to it."""
-        before = self.came_from(stamp)
-        path = [place]
-        while before[path[0]] is not None:
-            path = [before[path[0]]] + path
-        row = ()
-        acts = self.starts(stamp)[path[0]]
-        for p, q in zip(path, path[1:]):
-            row = row + self._awake(p, acts + (("send", p, q, (self._key,)),))
-            acts = self._cleared(q, stamp) + (("take", q, p, self._world.sent(p, q)),)
-        return row + self._awake(place, acts)
+    def goes_straight(self, home, stamp):
+        """Tell whether a value begins at a home, or comes to it over one link from where it begins."""
+        first = self.starts(stamp)
+        if home in first:
+            return True
+        return self.accepts(home, stamp) and any([home in self._roads[place] for place in first])
 
-    def _awake(self, place, acts):
-        """Return what a place does, which comes first if it is away and does anything."""
-        if self._world.is_away(place) and len(acts) > 0:
-            return (("come", place),) + acts
-        return acts
+    def rows_to(self, stamp):
+        """Return a dict from the places to which a value can come to the fewest events behind which they show it."""
+        found = self.starts(stamp)
+        waiting = list(found)
+        while len(waiting) > 0:
+            place = waiting.pop(0)
+            for other in self._roads[place]:
+                if not self.accepts(other, stamp):
+                    continue
+                row = self._gone_on(found[place], place, other, stamp)
+                if other not in found or len(row) < len(found[other]):
+                    found[other] = row
+                    waiting.append(other)
+        return found
+
+    def _gone_on(self, row, place, other, stamp):
+        """Return a row behind which a place shows a value, with the events by which it comes to another one."""
+        if len(row) == 0:
+            # What shows it from the beginning on may be away all the time, but not if it sends.
+            row = self._awake(place)
+        row = row + (("send", place, other, (self._key,)),)
+        return row + self._awake(other) + self._cleared(other, stamp) + (self._taking(other, place),)
+
+    def _taking(self, place, sender):
+        """Return the event by which a place takes the next message that is sent."""
+        return "take", place, sender, self._world.sent(sender, place)
+
+    def _awake(self, place):
+        """Return the events behind which a place is not away."""
+        return (("come", place),) if self._world.is_away(place) else ()
+
+    def _brought(self, place, event, stamp):
+        """Return the events behind which a place shows a value that an event brings, None if it is there."""
+        if event is None:
+            return ()
+        if event[0] == "crash":
+            return self._awake(place) + (event,)
+        return self._awake(place) + self._cleared(place, stamp) + (event,)
 
     def _cleared(self, place, stamp):
         """Return the events behind which the content of a place that accepts a value has no newer entry."""
@@ -104,10 +137,10 @@ class Field:
     def _written(self, stamp):
         """Return the events by which a home writes a value with a stamp."""
         number, home = stamp
-        row = ()
+        row = self._awake(home)
         clock = self._world.clock(home)
         if clock >= number:
-            row = (("crash", home),)
+            row = row + (("crash", home),)
             clock = self._world.saved_clock(home)
         if clock < number - 1:
             row = row + (("pass", home, number - 1),)
@@ -137,13 +170,19 @@ def walked(links, first, barred):
     return found
 
 
-def sources(world, key):
+def sources(world, key, skips=()):
     """Return a dict from the stamps of the values of a key to the places where they are.
 
     Each place stands in a tuple with the event by which the value comes into
     its content, None if it is there.
     """
-    rows = _in_contents(world, key) + _in_messages(world, key) + _in_backups(world, key)
+    rows = [(world.content(place), place, None) for place in world.places]
+    if "crashes" not in skips:
+        rows = rows + [(world.saved(home), home, ("crash", home)) for home in world.homes]
+    if "messages" not in skips:
+        rows = rows + _in_messages(world)
+    if "backups" not in skips:
+        rows = rows + [(copy, home, ("restore", home, name)) for (home, name), copy in world.backups().items()]
     found = {}
     for content, place, event in rows:
         if key in content and content[key][1] is not None:
@@ -165,22 +204,18 @@ def stamp_in(content, key):
     return content[key][0] if key in content else None
 
 
-def _bar(world, place, key):
+def _bar(world, place, key, skips):
     """Return the greatest stamp of values that a place does not accept, None if it accepts all."""
     now = stamp_in(world.content(place), key)
     if now is None or place in world.caches:
         return None
+    if "crashes" in skips:
+        return now
     safe = stamp_in(world.saved(place), key)
     return None if safe is None else min(now, safe)
 
 
-def _in_contents(world, key):
-    """Return contents and saved contents, with their places and the events that bring them back."""
-    now = [(world.content(place), place, None) for place in world.places]
-    return now + [(world.saved(home), home, ("crash", home)) for home in world.homes]
-
-
-def _in_messages(world, key):
+def _in_messages(world):
     """Return the messages that may be taken, with the places and the events that take them."""
     return [
         (letter, q, ("take", q, p, number))
@@ -188,8 +223,3 @@ def _in_messages(world, key):
         if not world.is_shut(p, q)
         for number, letter in world.letters_of(p, q)
     ]
-
-
-def _in_backups(world, key):
-    """Return the backups, with their places and the events that restore them."""
-    return [(copy, home, ("restore", home, name)) for (home, name), copy in world.backups().items()]

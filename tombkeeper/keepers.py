@@ -112,15 +112,11 @@ class Trial:
 
 def judged(world, event):
     """Return what a keeper in a world answers to an event, which may be any value."""
-    if not is_event(event):
-        return "refused", "event", event
-    wrong = world.refusal_of(event)
-    if wrong is not None:
-        return "refused", wrong[0], wrong[1]
-    if is_free(event):
-        return DONE
+    answer = unguarded(world, event)
+    if answer != DONE or is_free(event):
+        return answer
     behind = world >> event
-    found = _untold(world, behind)
+    found = untold(world, behind)
     if len(found) > 0:
         return "refused", "untold", found[0]
     found = ways(behind)
@@ -130,8 +126,18 @@ def judged(world, event):
     return DONE
 
 
-def _untold(world, behind):
-    """Return homes and keys of floors that were raised above what the home would number."""
+def unguarded(world, event):
+    """Return what a keeper in a world would answer that guards nothing; the event may be any value."""
+    if not is_event(event):
+        return "refused", "event", event
+    wrong = world.refusal_of(event)
+    if wrong is not None:
+        return "refused", wrong[0], wrong[1]
+    return DONE
+
+
+def untold(world, behind):
+    """Return homes and keys of floors that an event raised above what the home would number."""
     return [
         (home, key)
         for home in behind.homes

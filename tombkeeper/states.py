@@ -43,7 +43,11 @@ class Site:
 
     def told(self):
         """Return all that a world tells of the site, to be compared."""
-        return [self.now, self.safe, self.floors, self.copies, self.gone]
+        copies = [(name, self.copies[name].entries()) for name in sorted(self.copies)]
+        return (
+            self.now[0].entries(), self.now[1], self.safe[0].entries(), self.safe[1],
+            tuple(sorted(self.floors.items())), tuple(copies), self.gone,
+        )
 
 
 class Line:
@@ -90,7 +94,7 @@ class Line:
 
     def told(self):
         """Return all that a world tells of the line, to be compared."""
-        return [self.posted, self.letters, self.muted, self.closed]
+        return self.posted, tuple([letter.entries() for letter in self.letters]), self.muted, self.closed
 
 
 class State:
@@ -119,10 +123,10 @@ class State:
         return [ends for ends, line in self.lines.items() if line.is_clear()]
 
     def told(self):
-        """Return all that a world tells, to be compared."""
-        sites = {place: site.told() for place, site in self.sites.items()}
-        lines = {ends: line.told() for ends, line in self.lines.items()}
-        return [self.home_names, self.cache_names, sites, lines]
+        """Return all that a world tells, to be compared and to be found again in a dict."""
+        sites = [self.sites[place].told() for place in self.home_names + self.cache_names]
+        lines = [(ends, self.lines[ends].told()) for ends in sorted(self.lines)]
+        return (self.home_names, self.cache_names) + tuple(sites) + tuple(lines)
 
 
 def replaced(table, at, worth):

@@ -1,7 +1,7 @@
 """Stories: what a home can know by its messages alone."""
 
-from tombkeeper.asked import check_home, check_key, check_place
-from tombkeeper.errors import BadRow, BadStory, NotARun
+from tombkeeper.asked import check_home, check_key, check_place, check_row
+from tombkeeper.errors import BadStory, NotARun
 from tombkeeper.events import ends_of, is_event
 from tombkeeper.keepers import DONE, judged
 
@@ -10,8 +10,7 @@ class Story:
     """A run without opens."""
 
     def __init__(self, start, row=()):
-        if not isinstance(row, (list, tuple)):
-            raise BadRow(row)
+        check_row(row)
         self._start = start
         self._world = start
         # Events, each beside the message that it took and the index of its sending.

@@ -26,7 +26,7 @@ def way(world, home, key):
     field = Field(world, key)
     for stamp in field.candidates(floor):
         if home in field.came_from(stamp):
-            return field.row_to(home, stamp)
+            return field.rows_to(stamp)[home]
     return None
 
 

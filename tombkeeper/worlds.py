@@ -131,6 +131,10 @@ class World:
         """Return the word and the value with which an event is refused, or None."""
         return refusal(self._state, event)
 
+    def told(self):
+        """Return all that is told of the world as a tuple, which may be the key of a dict."""
+        return self._state.told()
+
     def __rshift__(self, other):
         """Return the world behind the event other, which may be any value."""
         if not is_event(other):
@@ -143,7 +147,7 @@ class World:
         return world
 
     def __eq__(self, other):
-        return isinstance(other, World) and self._state.told() == other._state.told()
+        return isinstance(other, World) and self.told() == other.told()
 
     def _site(self, place):
         """Return what a place has, which may be any value."""
