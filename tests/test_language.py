@@ -160,9 +160,21 @@ class Language(unittest.TestCase):
 
     def test_l6_l7_l19_what_is_not_used_here(self):
         for path in files():
-            kinds = (ast.GeneratorExp, ast.Match, ast.Lambda, ast.NamedExpr, ast.Try, ast.AnnAssign, ast.Starred)
+            kinds = (ast.GeneratorExp, ast.Match, ast.Lambda, ast.NamedExpr, ast.AnnAssign, ast.Starred, ast.With)
             for node in nodes(path, kinds):
                 self.fail(f"{path} line {node.lineno}")
+
+    def test_l19_only_own_errors_are_caught_and_raised(self):
+        own = [node.name for node in nodes(PACKAGE / "errors.py", ast.ClassDef)]
+        for path in files():
+            for node in nodes(path, ast.Try):
+                self.assertEqual(node.finalbody, [], path)
+            for node in nodes(path, ast.ExceptHandler):
+                self.assertIsInstance(node.type, ast.Name, f"{path} line {node.lineno}")
+                self.assertIn(node.type.id, own, f"{path} line {node.lineno}")
+            for node in nodes(path, ast.Raise):
+                self.assertIsInstance(node.exc, ast.Call, f"{path} line {node.lineno}")
+                self.assertIn(node.exc.func.id, own + ["TypeError", "NotImplementedError"], f"{path} line {node.lineno}")
 
     def test_l7_l24_where_sets_stand(self):
         for path in files():

@@ -49,6 +49,10 @@ class Content:
             return None
         return self._table[key][2]
 
+    def has_mark(self, key):
+        """Tell whether there is a mark of a word."""
+        return key in self._table and self._table[key][2] is None
+
     def __or__(self, other):
         """Return for each key the entry with the greater stamp."""
         table = dict(other._table)

@@ -72,10 +72,18 @@ def format_event(event):
 
 def parse_event(text):
     """Return the event that is written as the text."""
+    event = event_in(text)
+    if event is None:
+        raise BadText(text)
+    return event
+
+
+def event_in(text):
+    """Return the event that is written as the text, which may be any value, or None if there is none."""
     event = _likely_event(text) if isinstance(text, str) else None
     # Only what is written back as the very text was written so.
     if not is_event(event) or format_event(event) != text:
-        raise BadText(text)
+        return None
     return event
 
 

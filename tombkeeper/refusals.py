@@ -106,7 +106,7 @@ def _wrong_mark(state, event):
         return None
     key = event[2]
     now, safe = state.sites[place].now[0], state.sites[place].safe[0]
-    if key not in now or now[key][1] is not None:
+    if not now.has_mark(key):
         return "mark", key
     if key not in safe or safe[key] != now[key]:
         return "unsaved", key
