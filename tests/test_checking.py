@@ -5,7 +5,7 @@ import unittest
 
 import plain_ways
 from drawn import ALL, KEYS, dice, drawn_event, drawn_row, drawn_start
-from strange import Agreeable, Hostile, own_list, strange_values
+from strange import Agreeable, Hostile, deep_tuple, own_list, strange_values
 from tombkeeper.checking import Careless, check_report, comes, first_slip, report
 from tombkeeper.covers import cover
 from tombkeeper.errors import BadKey, BadRow, BadSkips, NoHome, NotARun
@@ -496,6 +496,16 @@ class Checks(unittest.TestCase):
         self.assertEqual(check_report(self.start, [(True, ("refused", "event", 1), ())]), 0)
         self.assertEqual(check_report(self.start, [("a", ("refused", "event", b"a"), ())]), 0)
 
+    def test_values_that_hold_themselves_come_to_an_end(self):
+        for thing in [own_list(), [own_list(), own_list()], (1, own_list())]:
+            told = report(self.start, [thing])
+            self.assertIn(check_report(self.start, told), (None, 0))
+
+    def test_values_that_are_nested_deep(self):
+        told = report(self.start, [deep_tuple(900)])
+        self.assertIsNone(check_report(self.start, told))
+        self.assertEqual(check_report(self.start, [told[0][:1] + (("refused", "event", deep_tuple(899)), ())]), 0)
+
     def test_numbers_that_the_world_tells(self):
         row = [("pass", "ann", 2), ("pass", "ann", 1), ("take", "bob", "ann", 0)]
         told = report(self.start, row)
@@ -524,6 +534,8 @@ class Checks(unittest.TestCase):
         for home, key in [("ann", "k"), ("bob", "l"), ("cid", "k"), ("eve", "k"), ("bob", "K"), (Hostile(), "k")]:
             self.wrong(9, (event, ("refused", "way", (home, key, (("take", "bob", "ann", 0),))), ()))
         self.wrong(9, (event, ("refused", "way", ["bob", "k", (("take", "bob", "ann", 0),)]), ()))
+        for words in [("refuse", "way"), ("done", "way"), ("refused", "untold"), ("refused", "Way"), ("way", "refused"), (None, "way")]:
+            self.wrong(9, (event, words + answer[2:], ()))
         self.wrong(9, (event, answer, None))
         self.wrong(9, (event, answer, (("bob", "k", {}),)))
 

@@ -248,6 +248,18 @@ class Steps(unittest.TestCase):
         gone = behind(world, ("leave", "ann"), ("leave", "bob"), ("leave", "cid"))
         self.assertEqual(steps_to(gone, "k", (1, "ann")), {"ann": 0, "bob": 4, "cid": 7})
 
+    def test_more_places_by_fewer_events(self):
+        world = World(["ann", "bob", "cid", "dan", "eve"], [
+            ("ann", "bob"), ("ann", "cid"), ("bob", "dan"), ("cid", "dan"), ("dan", "eve"),
+        ])
+        world = behind(
+            world, ("write", "ann", "k", "x"), ("send", "ann", "bob", None), ("write", "bob", "k", "y"), ("leave", "bob"),
+        )
+        # Bob comes, crashes and takes; so by cid there are more links, but fewer events.
+        steps = {"ann": 0, "bob": 3, "cid": 2, "dan": 4, "eve": 6}
+        self.assertEqual(steps_to(world, "k", (1, "ann")), steps)
+        self.assertEqual(steps_to(world >> ("leave", "cid"), "k", (1, "ann")), {**steps, "cid": 3, "dan": 5, "eve": 7})
+
     def test_caches_forget(self):
         world = World(["ann", "bob"], [("ann", "east"), ("bob", "east"), ("east", "ann")], ["east"])
         world = behind(

@@ -76,7 +76,7 @@ class IsPlan(unittest.TestCase):
             (("if", "h", "k", (), (SAVE,)),), (("if", "h", "k", (), ()),), (("if", "h", "k", (SAVE,)),),
             (("if", "h", "k", (SAVE,), []),), (("if", "h", "k", (SAVE,), None),), (("if", "h", "k", [SAVE], ()),),
             (("if", "h", "K", (SAVE,), ()),), (("if", 1, "k", (SAVE,), ()),), (("if", "h", (SAVE,), ()),),
-            (("if", "h", "k", (SAVE,), (), ()),), (("else", (SAVE,)),), (("if", "h", "k", (SAVE,), (None,)),),
+            (("if", "h", "k", (SAVE,), (), ()),), (("else", (SAVE,)),), (("iff", "h", "k", (SAVE,), ()),), (("if", "h", "k", (SAVE,), (None,)),),
         ]:
             self.assertIs(is_plan(plan), False, plan)
             self.bad(plan)

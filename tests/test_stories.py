@@ -116,6 +116,26 @@ class Stories(unittest.TestCase):
         row = [("write", "ann", "k", "x"), ("delete", "ann", "k"), ("save", "ann"), ("drop", "ann", "k")]
         self.assertEqual(Story(START, row).world, behind(START, *row))
 
+    def test_past_worlds_that_are_asked_for_again_and_again(self):
+        for seed in range(25):
+            rng = dice("again", seed)
+            start = World(*drawn_start(rng, 3, 1))
+            row = drawn_row(rng, start, 35, WITHOUT_OPENS)[0]
+            story = Story(start)
+            for count, event in enumerate(row, 1):
+                story.tell(event)
+                if rng.random() < 0.5:
+                    continue
+                twin, fresh = story.twin(), Story(start, row[:count])
+                for place in start.places:
+                    expected = behind(start, *[row[index] for index in fresh.past(place)])
+                    self.assertEqual(story.past_world(place), expected)
+                    self.assertEqual(twin.past_world(place), expected)
+                    self.assertEqual(story.past_world(place), expected)
+                if rng.random() < 0.3:
+                    twin.tell(("save", "ann") if not twin.world.is_away("ann") else ("come", "ann"))
+                    self.assertEqual(twin.past_world("ann"), Story(start, twin.all_events()).past_world("ann"))
+
     def test_tell(self):
         story = Story(START)
         for at, event in enumerate(ROW):

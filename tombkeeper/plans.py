@@ -81,7 +81,7 @@ def is_plan(thing):
     while len(waiting) > 0:
         plan, depth = waiting.pop()
         many += len(plan)
-        if many > MOST_STEPS or (depth > DEEPEST and len(plan) > 0):
+        if many > MOST_STEPS or depth > DEEPEST:
             return False
         if not all([_is_step(step) for step in plan]):
             return False
@@ -145,7 +145,7 @@ def _renamed(event, names):
 
 def _is_step(thing):
     """Tell whether a thing is a step, if what stands in the plans within it is right."""
-    if not isinstance(thing, tuple) or len(thing) < 2 or not isinstance(thing[0], str):
+    if not isinstance(thing, tuple) or len(thing) == 0 or not isinstance(thing[0], str):
         return False
     if thing[0] == "do":
         return len(thing) == 2 and is_event(thing[1])
@@ -232,7 +232,7 @@ def _fits(chain, depth, head):
 def _plan_at(heads, at, depth):
     """Return the plan of so deep steps that begins at an index, with the index behind it."""
     steps = []
-    while at < len(heads) and heads[at][0] == depth and heads[at][1] != ELSE:
+    while at < len(heads) and heads[at][0] == depth:
         step = heads[at][1]
         at += 1
         if step[0] != "do":

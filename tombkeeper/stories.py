@@ -20,6 +20,8 @@ class Story:
         # How many events, drops not counted, there were when an entry of a home came.
         self._births = {}
         self._count = 0
+        # For places that were asked for their past world its events, and the worlds between them.
+        self._pasts = {}
         for event in row:
             self.tell(event)
 
@@ -61,6 +63,7 @@ class Story:
         other._sendings = {ends: list(self._sendings[ends]) for ends in self._sendings}
         other._births = {pair: self._births[pair] for pair in self._births}
         other._count = self._count
+        other._pasts = {place: self._pasts[place] for place in self._pasts}
         return other
 
     def past(self, place):
@@ -81,10 +84,17 @@ class Story:
 
     def past_world(self, place):
         """Return the world behind the start and the events in the past of a place."""
-        world = self._start
-        for at in self.past(place):
-            world = world >> self._steps[at][0]
-        return world
+        indexes = self.past(place)
+        known, worlds = self._pasts.get(place, ([], [self._start]))
+        # What is new in a past often stands at its end, so most worlds are known.
+        same = 0
+        while same < min(len(known), len(indexes)) and known[same] == indexes[same]:
+            same += 1
+        worlds = worlds[:same + 1]
+        for at in indexes[same:]:
+            worlds.append(worlds[-1] >> self._steps[at][0])
+        self._pasts[place] = (indexes, worlds)
+        return worlds[-1]
 
     def heard(self, p, q, key):
         """Return the greatest stamp of a key that q took over a link since its last crash, or None."""
