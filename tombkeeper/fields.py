@@ -88,8 +88,9 @@ class Field:
 
     def rows_to(self, stamp):
         """Return a dict from the places to which a value can come to the fewest events behind which they show it."""
-        found = self.starts(stamp)
-        waiting = list(found)
+        first = self.starts(stamp)
+        found = {place: first[place] for place in first}
+        waiting = list(first)
         while len(waiting) > 0:
             place = waiting.pop(0)
             for other in self._roads[place]:
