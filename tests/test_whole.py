@@ -32,7 +32,27 @@ def drawn_runs(name, count, events):
         yield rng, places, keeper
 
 
+def drawn_free(rng, world):
+    """Return an event that changes a world."""
+    home = rng.choice(world.homes)
+    return ("come", home) if world.is_away(home) else ("pass", home, world.clock(home) + 1)
+
+
+def depth_of(thing):
+    """Return how deep tuples are nested."""
+    return 1 + max([depth_of(part) for part in thing], default=0) if isinstance(thing, tuple) else 0
+
+
 class OneRun(unittest.TestCase):
+    def test_all_that_is_told_of_a_world_may_be_the_key_of_a_dict(self):
+        deepest = 0
+        for rng, places, keeper in drawn_runs("told", 60, 40):
+            one, other = keeper.world.told(), keeper.twin().world.told()
+            self.assertEqual((one, hash(one)), (other, hash(other)))
+            self.assertNotEqual(one, (keeper.world >> drawn_free(rng, keeper.world)).told())
+            deepest = max(deepest, depth_of(one))
+        self.assertEqual(deepest, 7)
+
     def test_all_parts_say_the_same(self):
         drops = 0
         for rng, places, keeper in drawn_runs("whole", 60, 60):
