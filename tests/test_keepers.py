@@ -324,6 +324,31 @@ class Twins(unittest.TestCase):
         other = keeper >> ("drop", "ann", "k") >> DROP
         self.assertEqual((other.world.marks(), len(keeper.world.marks())), ([], 2))
 
+    def test_going_on_changes_nothing(self):
+        found = {}
+        for seed in range(80):
+            rng = dice("going on", seed)
+            keeper = Keeper(World(*drawn_start(rng, 3, 1)))
+            for _ in range(50):
+                event = drawn_event(rng, keeper.world, ALL)
+                world, before, log, twin = keeper.world, told(keeper.world), keeper.log(), keeper.twin()
+                answer = twin.do(event)
+                try:
+                    other = keeper >> event
+                except Refused as caught:
+                    self.assertEqual(("refused", caught.word, caught.value), answer)
+                else:
+                    self.assertEqual(answer, ("done",))
+                    self.assertEqual((other, other.world, other.log()), (twin, twin.world, twin.log()))
+                    other.do(("leave", keeper.world.homes[0]))
+                self.assertIs(keeper.world, world)
+                self.assertEqual((told(keeper.world), keeper.log()), (before, log))
+                # It still answers what it would have answered.
+                self.assertEqual(keeper.do(event), answer)
+                found[answer[:2]] = found.get(answer[:2], 0) + 1
+        for wanted in [("done",), ("refused", "way"), ("refused", "untold"), ("refused", "mark")]:
+            self.assertGreater(found.get(wanted, 0), 2, wanted)
+
     def test_wrong_events(self):
         keeper = keeper_behind(ROW)
         for thing in NO_EVENTS + strange_values():

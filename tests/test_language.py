@@ -1,13 +1,13 @@
-"""The rules of LANGUAGE.md that can be checked line by line or name by name."""
+"""The rules of LANGUAGE.md that can be checked line by line or name by name (L5, L28: test_operators.py)."""
 
 import ast
 import builtins
-import pathlib
 import re
 import unittest
 import warnings
 
-PACKAGE = pathlib.Path(__file__).resolve().parent.parent / "tombkeeper"
+from sources import PACKAGE, files, nodes
+
 LIBRARY = ["heapq", "math", "itertools", "collections", "__future__"]
 # L8, and what L5 and L23 add to it.
 ALLOWED_BUILTINS = """
@@ -29,43 +29,6 @@ NO_ATTRIBUTES = """
     items keys values pop update append clear extend insert remove reverse setdefault sort args encode decode hex
     fromhex format format_map mro
 """.split()
-
-
-def files():
-    return sorted(PACKAGE.rglob("*.py"))
-
-
-def nodes(path, kinds):
-    return [node for node in ast.walk(ast.parse(path.read_text())) if isinstance(node, kinds)]
-
-
-def creates(value):
-    """Tell whether an expression gives a new list, dict or own object."""
-    if isinstance(value, (ast.List, ast.Dict, ast.ListComp, ast.DictComp)):
-        return True
-    if isinstance(value, ast.Subscript):
-        return isinstance(value.slice, ast.Slice)
-    if isinstance(value, ast.BinOp):
-        return creates(value.left) or creates(value.right)
-    if not isinstance(value, ast.Call):
-        return False
-    if isinstance(value.func, ast.Name):
-        return value.func.id in ("list", "dict", "sorted") or value.func.id[0].isupper()
-    return value.func.attr == "copy"
-
-
-def changes(function):
-    """Return the names of what a function changes by an item, an attribute or a method."""
-    found = []
-    for node in ast.walk(function):
-        if isinstance(node, (ast.Subscript, ast.Attribute)) and isinstance(node.ctx, (ast.Store, ast.Del)):
-            found.append(ast.unparse(node.value))
-        if isinstance(node, ast.Call) and isinstance(node.func, ast.Attribute):
-            modifying = "append extend insert pop remove clear update sort reverse setdefault"
-            if node.func.attr in modifying.split():
-                found.append(ast.unparse(node.func.value))
-    # What setdefault puts into a new dict is new, too.
-    return [name for name in found if ".setdefault(" not in name]
 
 
 class Language(unittest.TestCase):
@@ -204,24 +167,6 @@ class Language(unittest.TestCase):
             for node in nodes(path, ast.Raise):
                 self.assertIsInstance(node.exc, ast.Call, f"{path} line {node.lineno}")
                 self.assertIn(node.exc.func.id, own + ["TypeError", "NotImplementedError"], f"{path} line {node.lineno}")
-
-    def test_l5_what_operators_run_changes_only_what_it_created(self):
-        # The files of all functions that an operator or a property runs.
-        names = "stamps contents events states refusals doings floors worlds asked fields ways keepers questions policies"
-        for name in names.split():
-            for function in nodes(PACKAGE / f"{name}.py", ast.FunctionDef):
-                if function.name in ("__init__", "do", "tidy", "twin", "trial", "__exit__", "_go_on", "spread", "_worlds_of", "timeline"):
-                    continue
-                made = {}
-                for node in ast.walk(function):
-                    if isinstance(node, ast.Assign):
-                        for target in node.targets:
-                            if isinstance(target, ast.Name):
-                                made.setdefault(target.id, []).append(creates(node.value))
-                for changed in changes(function):
-                    self.assertTrue(
-                        changed in made and all(made[changed]), f"{name} {function.name} changes {changed}",
-                    )
 
     def test_l7_l24_where_sets_stand(self):
         for path in files():

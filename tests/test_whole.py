@@ -103,6 +103,43 @@ class OneRun(unittest.TestCase):
         return len(done) - len(free)
 
 
+class Answers(unittest.TestCase):
+    def test_those_of_keepers_knowers_and_careless_keepers(self):
+        start = World(["ann", "bob"], [("ann", "bob"), ("bob", "ann")])
+        keeper, knower, careless = Keeper(start), Knower(start), Careless(start, ("messages",))
+        done, drop, no_event = ("done",), ("drop", "bob", "k"), ["save", "ann"]
+        again, told = ("take", "bob", "ann", 0), ("refused", "untold", ("ann", "k"))
+        for event, *expected in [
+            (("write", "ann", "k", "x"), done, done, done),
+            (("send", "ann", "bob", None), done, done, done),
+            (("take", "bob", "ann", 0), done, done, done),
+            (("delete", "bob", "k"), done, done, done),
+            (drop,) + (("refused", "unsaved", "k"),) * 3,
+            (("save", "bob"), done, done, done),
+            (drop, told, told, told),
+            (("drop", "ann", "k"),) + (("refused", "mark", "k"),) * 3,
+            (("open", "bob", "ann"), ("refused", "link", ("bob", "ann")), ("refused", "open", ("bob", "ann")), ("refused", "link", ("bob", "ann"))),
+            (no_event,) + (("refused", "event", no_event),) * 3,
+            (("send", "bob", "ann", None), done, done, done),
+            (("take", "ann", "bob", 0), done, done, done),
+            (("save", "ann"), done, done, done),
+            # The first message of ann may be taken again; bob does not know that ann was told.
+            (drop, ("refused", "way", ("bob", "k", (again,))), told, done),
+            (drop, ("refused", "way", ("bob", "k", (again,))), told, ("refused", "mark", "k")),
+            (("send", "ann", "bob", None), done, done, done),
+            (("take", "bob", "ann", 1), done, done, done),
+            # Where the mark was dropped, it is there again by the message; it was saved all the time.
+            (drop, done, done, done),
+        ]:
+            for one, answer in zip([keeper, knower, careless], expected):
+                self.assertIs(one.may(event), answer == done, event)
+                self.assertEqual(one.do(event), answer, event)
+                self.assertEqual(one.log()[-1], (event, answer))
+        with keeper.trial() as other:
+            self.assertEqual(other.do(("save", "bob")), done)
+        self.assertEqual((other.may(("save", "bob")), other.do(("save", "bob"))), (False, ("refused", "over", None)))
+
+
 class Handed(unittest.TestCase):
     def test_nothing_that_is_handed_in_changes(self):
         for rng, places, keeper in drawn_runs("handed", 30, 40):

@@ -28,7 +28,7 @@ class Keeper:
 
     def do(self, event):
         """Do an event, which may be any value, if it is not refused, and return the answer."""
-        answer = self._answer(event)
+        answer = self._verdict(event)
         if answer == DONE:
             self._world = self._world >> event
         self._log.append((event, answer))
@@ -38,7 +38,7 @@ class Keeper:
         """Return a new keeper that did the event other, which may be any value."""
         if not is_event(other):
             raise BadEvent(other)
-        answer = self._answer(other)
+        answer = self._verdict(other)
         if answer != DONE:
             raise Refused(answer[1], answer[2])
         keeper = Keeper(self._start)
@@ -48,7 +48,7 @@ class Keeper:
 
     def may(self, event):
         """Tell whether an event, which may be any value, would be done."""
-        return self._answer(event) == DONE
+        return self._verdict(event) == DONE
 
     def log(self):
         """Return the events, refused ones included, with their answers."""
@@ -89,7 +89,8 @@ class Keeper:
     def __eq__(self, other):
         return isinstance(other, Keeper) and self._start == other._start and self._log == other._log
 
-    def _answer(self, event):
+    # An operator calls this; no other class has a method of this name, so it is plain that nothing changes.
+    def _verdict(self, event):
         """Return what do would answer."""
         if self._is_over:
             return "refused", "over", None
